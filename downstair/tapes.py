@@ -4,6 +4,7 @@ A machine is (rooms, signs, rules), a rule None or (write, way, room), a stand (
 """
 
 from downstair.errors import NoMachine
+from downstair.walks import walked
 
 FEWEST_ROOMS = 1
 MOST_ROOMS = 6
@@ -63,15 +64,7 @@ def stepped(machine, stand):
 
 
 def gone(machine, stand, most):
-    here = stand
-    steps = 0
-    while steps < most:
-        after = stepped(machine, here)
-        if after is None:
-            break
-        here = after
-        steps = steps + 1
-    return (here, steps)
+    return walked(stepped, machine, stand, most)
 
 
 def nearest(side):

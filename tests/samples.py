@@ -1,4 +1,4 @@
-"""Machines, stands and a plain tape for the tests."""
+"""Machines and stands for the tests, and plain ways of doing what the program does, without the program."""
 
 from itertools import product
 
@@ -14,6 +14,14 @@ def made_machine(rooms, signs, gap):
     return (rooms, signs, tuple(rules))
 
 
+def varied_machine(signs):
+    """A machine of three rooms that writes every sign both ways, with a None behind each two rules."""
+    rules = []
+    for write in range(signs):
+        rules.extend([(write, 0, (write + 1) % 3), (write, 1, (2 * write + 2) % 3), None])
+    return (3, signs, tuple(rules))
+
+
 RUNNER = (1, 2, ((1, 1, 0), None))
 NEVER_ENDING = (1, 2, ((1, 0, 0), (0, 1, 0)))
 # The busy beaver of three rooms: 21 steps from the empty tape to its end, with five signs 1 left behind.
@@ -26,7 +34,8 @@ BEAVER = (4, 2, (
 SMALL = made_machine(1, 3, 4)
 MIDDLE = made_machine(3, 3, 5)
 LARGE = made_machine(6, 4, 7)
-MACHINES = (RUNNER, NEVER_ENDING, BEAVER, SMALL, MIDDLE, LARGE)
+VARIED = (varied_machine(2), varied_machine(3), varied_machine(4))
+MACHINES = (RUNNER, NEVER_ENDING, BEAVER, SMALL, MIDDLE, LARGE) + VARIED
 
 
 def sides(signs, longest):
@@ -65,6 +74,15 @@ def row_from(tape, head, way, longest):
     return tuple(row)
 
 
+def figures(signs, side):
+    return sum(sign * signs ** place for place, sign in enumerate(side))
+
+
+def pile_of(machine, stand):
+    room, left, under, right = stand
+    return (room, under, figures(machine[1], left), figures(machine[1], right))
+
+
 def kinds_of_stand(stand):
     """The kinds of all parts of a stand, tuples within it too."""
     room, left, under, right = stand
@@ -73,3 +91,71 @@ def kinds_of_stand(stand):
 
 
 STAND_KINDS = (tuple, int, tuple, int, tuple, set())
+
+# Rows of all kinds on all counters, to places before, behind and their own.
+ROWS = [
+    ("add", 0, 1), ("take", 1, 0, 2), ("add", 2, 5), ("take", 2, 3, 0), ("add", 1, 1), ("take", 0, 7, 6),
+    ("stop",), ("take", 2, 4, 8), ("add", 1, 3), ("stop",), ("take", 0, 9, 10),
+]
+COUNTS = (
+    (0, 0, 0), (1, 0, 0), (0, 1, 0), (0, 0, 1), (1, 1, 1), (2, 0, 5), (0, 3, 2), (4, 1, 0), (3, 2, 4), (10, 20, 30),
+)
+
+
+def row_stepped(rows, spot):
+    """A step of the rows on a list of counts, done without the program."""
+    place, counts = spot
+    left = list(counts)
+    kind, *told = rows[place]
+    if kind == "stop":
+        return None
+    if kind == "add":
+        counter, to = told
+        left[counter] += 1
+        return (to, tuple(left))
+    counter, to, other = told
+    if left[counter] == 0:
+        return (other, tuple(left))
+    left[counter] -= 1
+    return (to, tuple(left))
+
+
+def table_entries(machine):
+    """The entries of a machine in the order of its rules, and the place behind the last block."""
+    rooms, signs, rules = machine
+    places = [0]
+    for rule in rules:
+        # Counted along the table: far to 2, back again, the sign written, near to 2, and s ways back again.
+        length = 1 if rule is None else (1 + signs) + 2 + rule[0] + (signs + 1) + 2 * signs
+        places.append(places[-1] + length)
+    return places
+
+
+def table_rows(machine):
+    """The rows of a machine by their places, put down as the document's table tells them."""
+    rooms, s, rules = machine
+    entries = table_entries(machine)
+    rows = {}
+    for rule, b in zip(rules, entries):
+        if rule is None:
+            rows[b] = ("stop",)
+            continue
+        write, way, room = rule
+        near, far = {0: (0, 1), 1: (1, 0)}[way]
+        rows[b] = ("take", far, b + 1, b + s + 1)
+        for place in range(b + 1, b + s + 1):
+            rows[place] = ("add", 2, b if place == b + s else place + 1)
+        rows[b + s + 1] = ("take", 2, b + s + 2, b + s + 3)
+        rows[b + s + 2] = ("add", far, b + s + 1)
+        d = b + s + 3 + write
+        for place in range(b + s + 3, d):
+            rows[place] = ("add", far, place + 1)
+        for place in range(d, d + s):
+            taken = place - d
+            rows[place] = ("take", near, place + 1, d + s + 1 + 2 * taken)
+        rows[d + s] = ("add", 2, d)
+        for r in range(s):
+            x = d + s + 1 + 2 * r
+            rows[x] = ("take", 2, x + 1, entries[room * s + r])
+            rows[x + 1] = ("add", near, x)
+    return [rows[place] for place in range(entries[-1])]

@@ -43,6 +43,15 @@ def bound_names(tree):
             yield node.id
 
 
+def top_names(tree):
+    """The names that a file itself gives a meaning at its top."""
+    for node in tree.body:
+        if isinstance(node, (ast.FunctionDef, ast.ClassDef)):
+            yield node.name
+        elif isinstance(node, ast.Assign):
+            yield node.targets[0].id
+
+
 def bodies(tree):
     for node in ast.walk(tree):
         if isinstance(getattr(node, "body", None), list):
@@ -96,6 +105,8 @@ class LanguageTest(unittest.TestCase):
             if isinstance(node, ast.Constant):
                 self.assertIn(type(node.value), (int, str, bool, type(None)), node.lineno)
                 self.assertNotIn("%", str(node.value), node.lineno)
+            if isinstance(node, ast.BinOp) and isinstance(node.op, ast.Pow):
+                self.assertIn(ast.literal_eval(node.right), range(65), node.lineno)
 
     def test_imports(self):
         self.on_each_file(self.check_imports)
@@ -106,7 +117,34 @@ class LanguageTest(unittest.TestCase):
             if isinstance(node, ast.ImportFrom):
                 self.assertEqual(node.level, 0)
                 self.assertRegex(node.module, r"\Adownstair\.[a-z_]+\Z")
-                self.assertTrue((PACKAGE / (node.module.split(".")[1] + ".py")).is_file())
+                source = PACKAGE / (node.module.split(".")[1] + ".py")
+                defined = set(top_names(ast.parse(source.read_text(encoding="utf-8"))))
+                self.assertLessEqual({alias.name for alias in node.names}, defined)
+
+    def test_no_two_files_draw_from_one_another(self):
+        drawn = {}
+        for path in FILES:
+            tree = ast.parse(path.read_text(encoding="utf-8"))
+            drawn[path.stem] = {
+                node.module.split(".")[1] for node in ast.walk(tree) if isinstance(node, ast.ImportFrom)
+            }
+        while drawn:
+            # Files that draw from none of those left: without one, some go round in a ring.
+            free = [name for name, sources in drawn.items() if not sources & set(drawn)]
+            self.assertNotEqual(free, [], drawn)
+            for name in free:
+                drawn.pop(name)
+
+    def test_nothing_is_kept_at_the_top(self):
+        self.on_each_file(self.check_top)
+
+    def check_top(self, text, tree):
+        names = list(top_names(tree))
+        self.assertEqual(len(names), len(set(names)))
+        for node in tree.body:
+            if isinstance(node, ast.Assign):
+                # Whole numbers, texts and tuples of them can't be changed by any call.
+                self.assertIsInstance(ast.literal_eval(node.value), (int, str, tuple), node.lineno)
 
     def test_names(self):
         self.on_each_file(self.check_names)

@@ -6,19 +6,10 @@ from downstair.piles import pile_stepped, piled, unpiled
 from downstair.tapes import begun, stepped
 from tests.samples import (
     BEAVER, LARGE, MACHINES, MIDDLE, RUNNER, STAND_KINDS,
-    kinds_of_stand, made_machine, stands, tape_stepped,
+    figures, kinds_of_stand, made_machine, pile_of, stands, tape_stepped,
 )
 
 NUMBERS = (0, 1, 2, 3, 4, 5, 7, 8, 9, 15, 16, 17, 26, 27, 63, 64, 255, 256, 10 ** 9, 10 ** 20, 3 ** 90 + 5, 4 ** 200)
-
-
-def figures(signs, side):
-    return sum(sign * signs ** place for place, sign in enumerate(side))
-
-
-def pile_of(machine, stand):
-    room, left, under, right = stand
-    return (room, under, figures(machine[1], left), figures(machine[1], right))
 
 
 class PiledTest(unittest.TestCase):
