@@ -247,7 +247,8 @@ class CostTest(unittest.TestCase):
                     if after is None:
                         self.assertIsNone(steps)
                     else:
-                        self.assertEqual(spot_gone(rows, spot_of(machine, stand), steps), (spot_of(machine, after), steps))
+                        come = spot_gone(rows, spot_of(machine, stand), steps)
+                        self.assertEqual(come, (spot_of(machine, after), steps))
 
     def test_sides_of_twelve_signs(self):
         for machine in VARIED:

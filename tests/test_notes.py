@@ -169,10 +169,14 @@ class ReadTest(unittest.TestCase):
                             self.refused(start + rule * wrong)
 
     def test_rules_in_another_form(self):
-        for rule in ("--", "1>", ">0", "1-0", "<", ">", "1<>0", "1>0>0", "0>1>0", "None", "1=0", "->0", "1>-", "1", "10"):
+        for rule in (
+            "--", "1>", ">0", "1-0", "<", ">", "1<>0", "1>0>0", "0>1>0", "None", "1=0", "->0", "1>-", "1", "10",
+        ):
             self.refused(f"1 2: {rule} -")
             self.refused(f"1 2: - {rule}")
-        for text in ("1 2; 1>0 -", "1 2 1>0 -", "1 2:: 1>0 -", "1, 2: 1>0 -", "1 2: 1>0 - # end", "1 2: 1>0 -:", "1: 2: - -"):
+        for text in (
+            "1 2; 1>0 -", "1 2 1>0 -", "1 2:: 1>0 -", "1, 2: 1>0 -", "1 2: 1>0 - # end", "1 2: 1>0 -:", "1: 2: - -",
+        ):
             self.refused(text)
 
     def test_texts_of_two_hundred_signs_and_more(self):
